@@ -80,6 +80,19 @@ func goodCopy(d *api.Disk, m *api.Remap, p api.Ptr, at int) (api.Block, bool) {
 	return b, e == api.OK && sumOf(b) == p.Sum
 }
 
+// withoutReading: what a read is answered ahead of any look at the copies, if that is all.
+func withoutReading(d *api.Disk, m *api.Remap, p api.Ptr) (answer, bool) {
+	switch {
+	case !atHome(d, m, p):
+		return answer{code: api.ErrArg}, true
+	case p == api.Ptr{A: -1, B: -1}:
+		return answer{}, true
+	case d.Down:
+		return answer{code: api.ErrDown}, true
+	}
+	return answer{}, false
+}
+
 func getting(p api.Ptr) call {
 	return call{
 		fmt.Sprintf("get %d, %d, %x..", p.A, p.B, p.Sum[:2]),
@@ -88,13 +101,8 @@ func getting(p api.Ptr) call {
 			return answer{block: b, healed: n, code: e}
 		},
 		func(d *api.Disk, m *api.Remap) answer {
-			switch {
-			case !atHome(d, m, p):
-				return answer{code: api.ErrArg}
-			case p == api.Ptr{A: -1, B: -1}:
-				return answer{}
-			case d.Down:
-				return answer{code: api.ErrDown}
+			if x, ok := withoutReading(d, m, p); ok {
+				return x
 			}
 			if b, ok := goodCopy(d, m, p, p.A); ok {
 				return answer{block: b}
@@ -125,13 +133,8 @@ func looking(p api.Ptr) call {
 			return answer{report: r, code: e}
 		},
 		func(d *api.Disk, m *api.Remap) answer {
-			switch {
-			case !atHome(d, m, p):
-				return answer{code: api.ErrArg}
-			case p == api.Ptr{A: -1, B: -1}:
-				return answer{}
-			case d.Down:
-				return answer{code: api.ErrDown}
+			if x, ok := withoutReading(d, m, p); ok {
+				return x
 			}
 			x, first := goodCopy(d, m, p, p.A)
 			if p.B == -1 {
